@@ -65,7 +65,7 @@ func layers() []string {
 	return strings.Fields("api sig words terms canon text bag subst derive linsolve pick agenda abstract step rejoin state solve units unify split match instance minimise proof session")
 }
 
-// calls are the layers that each layer may call, as the document's map says them (api is for all).
+// calls are the layers that each layer may call, as the document's map says them (api is for all). Solve calls sig, terms and canon beside those of the map: its chapter asks for what they answer, and none of the others tells it.
 func calls() map[string][]int {
 	upTo := func(from, to int) []int {
 		var l []int
@@ -77,7 +77,7 @@ func calls() map[string][]int {
 	return map[string][]int{
 		"words": {1}, "terms": {1}, "canon": {1, 3}, "text": {1, 2, 3}, "subst": {1, 3, 4}, "derive": {1, 3, 4},
 		"abstract": {3, 4, 6}, "step": {3, 4, 7}, "rejoin": {3, 4, 9, 10, 12}, "state": {3, 4, 7, 11, 12, 13, 14},
-		"solve": upTo(9, 15), "units": {1}, "unify": {1, 3, 4, 7, 16, 17}, "split": {6}, "match": {1, 3, 4, 7, 17, 19},
+		"solve": append([]int{1, 3, 4}, upTo(9, 15)...), "units": {1}, "unify": {1, 3, 4, 7, 16, 17}, "split": {6}, "match": {1, 3, 4, 7, 17, 19},
 		"instance": {3, 7, 20}, "minimise": {21}, "proof": {4, 7, 8, 18}, "session": upTo(1, 23),
 	}
 }
